@@ -14,6 +14,7 @@ import (
 
 	"muniment/api"
 	"muniment/digest"
+	"muniment/probe"
 )
 
 // edges are the lengths around which padding and keys change, and some between.
@@ -24,12 +25,6 @@ func drawn(n int, seed int64) []byte {
 	p := make([]byte, n)
 	rand.New(rand.NewSource(seed)).Read(p)
 	return p
-}
-
-// roomy is p with spare room behind it that isn't noughts; whole is p and that room.
-func roomy(p []byte) (q, whole []byte) {
-	whole = append(bytes.Clone(p), bytes.Repeat([]byte{0xa5}, 80)...)
-	return whole[:len(p)], whole
 }
 
 // P1.1: the digests that FIPS 180-4's examples name.
@@ -220,8 +215,8 @@ func TestHex(t *testing.T) {
 // P1, and the rule of memory: nothing handed in is changed, its spare room neither.
 func TestArgumentsStay(t *testing.T) {
 	for _, n := range edges {
-		p, pWhole := roomy(drawn(n, 1))
-		q, qWhole := roomy(drawn(n, 2))
+		p, pWhole := probe.Roomy(drawn(n, 1))
+		q, qWhole := probe.Roomy(drawn(n, 2))
 		pWas, qWas := bytes.Clone(pWhole), bytes.Clone(qWhole)
 		digest.Sum(p)
 		digest.Tag(p, q)
@@ -246,8 +241,8 @@ func TestSameAnswers(t *testing.T) {
 		key, p := drawn(n, 10), drawn(n+1, 11)
 		first := told(key, p)
 		told(drawn(n+2, 12), drawn(n+3, 13))
-		roomyKey, _ := roomy(key)
-		roomyText, _ := roomy(p)
+		roomyKey, _ := probe.Roomy(key)
+		roomyText, _ := probe.Roomy(p)
 		if told(key, p) != first || told(roomyKey, roomyText) != first {
 			t.Errorf("%d bytes are answered in more than one way", n)
 		}

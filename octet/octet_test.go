@@ -12,18 +12,8 @@ import (
 
 	"muniment/api"
 	"muniment/octet"
+	"muniment/probe"
 )
-
-// roomy is p with spare room behind it that isn't noughts; whole is p and that room.
-func roomy(p []byte) (q, whole []byte) {
-	whole = append(bytes.Clone(p), bytes.Repeat([]byte{0xa5}, 40)...)
-	return whole[:len(p)], whole
-}
-
-// places are those below 0 and behind the end of n bytes.
-func places(n int) []int {
-	return []int{-1, math.MinInt, n + 1, n + 8, math.MaxInt - 7, math.MaxInt}
-}
 
 // numbers are the ends of the ranges, powers of two and their neighbours, and some that are drawn.
 func numbers() []uint64 {
@@ -129,7 +119,7 @@ func TestNumbersRefused(t *testing.T) {
 	}
 	for n := range 20 {
 		p := bytes.Repeat([]byte{0x33}, n)
-		for _, at := range places(n) {
+		for _, at := range probe.Places(n) {
 			refused(p, at, api.ErrArg)
 		}
 		for at := max(0, n-7); at <= n; at++ {
@@ -139,7 +129,7 @@ func TestNumbersRefused(t *testing.T) {
 	refused(nil, 0, api.ErrForm)
 	refused(nil, 1, api.ErrArg)
 	// Bytes that are only there as spare room aren't left.
-	p, _ := roomy([]byte{1, 2, 3, 4, 5, 6, 7})
+	p, _ := probe.Roomy([]byte{1, 2, 3, 4, 5, 6, 7})
 	refused(p, 0, api.ErrForm)
 	refused(p, 8, api.ErrArg)
 }
@@ -204,7 +194,7 @@ func TestTextRefused(t *testing.T) {
 		}
 	}
 	for _, p := range []string{"", "a", "a\x00\x01", "\x00"} {
-		for _, at := range places(len(p)) {
+		for _, at := range probe.Places(len(p)) {
 			refused(p, at, api.ErrArg)
 		}
 		refused(p, len(p), api.ErrForm)
@@ -335,9 +325,9 @@ func TestSum(t *testing.T) {
 // P1, and the rule of memory: nothing handed in is changed, its spare room neither.
 func TestArgumentsStay(t *testing.T) {
 	for _, s := range []string{"", "a", "a\x00\x01", "\x00\xff\x00\x01", "a\xff", "\xff\xff", "12345678", "123456789"} {
-		p, whole := roomy([]byte(s))
+		p, whole := probe.Roomy([]byte(s))
 		was := bytes.Clone(whole)
-		for _, at := range append(places(len(s)), 0, 1) {
+		for _, at := range append(probe.Places(len(s)), 0, 1) {
 			octet.ReadInt(p, at)
 			octet.ReadUint(p, at)
 			octet.ReadText(p, at)
@@ -352,35 +342,23 @@ func TestArgumentsStay(t *testing.T) {
 
 // P2, and the rule of memory: an answer stays, whatever becomes of the bytes and of other answers, spare room too.
 func TestAnswersAreNew(t *testing.T) {
-	fill := func(p []byte) {
-		for i := range p[:cap(p)] {
-			p[:cap(p)][i] = 0x77
-		}
-	}
 	made := func() [][]byte {
 		above, _ := octet.Above([]byte("ab\xff"))
 		return [][]byte{octet.Int(5), octet.Uint(5), octet.Text("a\x00b"), octet.Text(""), above}
 	}
-	want, got := made(), made()
-	for i := range got {
-		again := made()
-		fill(got[i])
-		for j, p := range made() {
-			if !bytes.Equal(p, want[j]) || !bytes.Equal(again[j], want[j]) {
-				t.Errorf("answer %d became %x as answer %d was written over", j, p, i)
-			}
-		}
+	for _, i := range probe.Spoilt(made) {
+		t.Errorf("answer %d was written over by another", i)
 	}
-	p, _ := roomy([]byte("ab\x00\x01"))
+	p, _ := probe.Roomy([]byte("ab\x00\x01"))
 	s, _, _ := octet.ReadText(p, 0)
 	above, _ := octet.Above(p)
-	fill(p)
+	probe.Fill(p)
 	if s != "ab" || string(above) != "ab\x00\x02" {
 		t.Errorf("answers became %q, %q as the bytes were written over", s, above)
 	}
-	q, whole := roomy([]byte("ab"))
+	q, whole := probe.Roomy([]byte("ab"))
 	above, _ = octet.Above(q)
-	fill(above)
+	probe.Fill(above)
 	if !bytes.Equal(whole[:2], []byte("ab")) {
 		t.Errorf("the bytes became %q as the answer was written over", whole[:2])
 	}
@@ -390,7 +368,7 @@ func TestAnswersAreNew(t *testing.T) {
 func TestSameAnswers(t *testing.T) {
 	for _, s := range append(texts(), "12345678", "a\x00\xffb\x00\x01c") {
 		p := []byte(s)
-		q, _ := roomy(p)
+		q, _ := probe.Roomy(p)
 		u, un, ue := octet.ReadUint(p, 0)
 		v, vn, ve := octet.ReadUint(q, 0)
 		x, xn, xe := octet.ReadText(p, 0)

@@ -1,0 +1,38 @@
+package probe_test
+
+import (
+	"bytes"
+	"testing"
+
+	"muniment/probe"
+)
+
+// The helpers see what they are there to see: lists that share room with one another, or with those of an earlier answer.
+func TestSpoilt(t *testing.T) {
+	own := func() [][]byte { return [][]byte{[]byte("ab"), []byte("ab"), nil} }
+	if got := probe.Spoilt(own); len(got) != 0 {
+		t.Errorf("lists of their own: %v", got)
+	}
+	kept := []byte("cd")
+	if len(probe.Spoilt(func() [][]byte { return [][]byte{[]byte("ab"), kept} })) == 0 {
+		t.Error("a list that is handed out again isn't told")
+	}
+	within := func() [][]byte {
+		p := []byte("abcd")
+		return [][]byte{p[:2], p[2:]}
+	}
+	if len(probe.Spoilt(within)) == 0 {
+		t.Error("a list that stands in another's spare room isn't told")
+	}
+}
+
+func TestRoomy(t *testing.T) {
+	q, whole := probe.Roomy([]byte("ab"))
+	if string(q) != "ab" || !bytes.Equal(q[:cap(q)][:len(whole)], whole) || len(whole) < 40 {
+		t.Errorf("Roomy(ab) = %q, %q", q, whole)
+	}
+	probe.Fill(q)
+	if !bytes.Equal(whole, bytes.Repeat([]byte{0x77}, len(whole))) {
+		t.Errorf("Fill left %q", whole)
+	}
+}
