@@ -45,3 +45,29 @@ func Spoilt(made func() [][]byte) []int {
 	}
 	return out
 }
+
+// Choices are those of n writes that may be kept: each one, if they are few; else none, all, each by itself, all but each, and the first ones.
+func Choices(n int) [][]bool {
+	var out [][]bool
+	add := func(kept func(k int) bool) {
+		keep := make([]bool, n)
+		for k := range keep {
+			keep[k] = kept(k)
+		}
+		out = append(out, keep)
+	}
+	if n <= 5 {
+		for choice := range 1 << n {
+			add(func(k int) bool { return choice>>k&1 == 1 })
+		}
+		return out
+	}
+	add(func(int) bool { return false })
+	add(func(int) bool { return true })
+	for i := range n {
+		add(func(k int) bool { return k == i })
+		add(func(k int) bool { return k != i })
+		add(func(k int) bool { return k < i })
+	}
+	return out
+}

@@ -36,3 +36,27 @@ func TestRoomy(t *testing.T) {
 		t.Errorf("Fill left %q", whole)
 	}
 }
+
+func TestChoices(t *testing.T) {
+	for n := range 9 {
+		seen := map[string]int{}
+		for _, keep := range probe.Choices(n) {
+			if len(keep) != n {
+				t.Fatalf("a choice of %d writes has %d", n, len(keep))
+			}
+			p := make([]byte, n)
+			for k, kept := range keep {
+				if kept {
+					p[k] = 1
+				}
+			}
+			seen[string(p)]++
+		}
+		if n <= 5 && len(seen) != 1<<n {
+			t.Errorf("%d choices of %d writes", len(seen), n)
+		}
+		if seen[string(make([]byte, n))] == 0 || seen[string(bytes.Repeat([]byte{1}, n))] == 0 {
+			t.Errorf("of %d writes none, or all, is no choice", n)
+		}
+	}
+}
