@@ -4,6 +4,8 @@ import (
 	"bytes"
 	"testing"
 
+	"muniment/api"
+	"muniment/disk"
 	"muniment/probe"
 )
 
@@ -58,5 +60,25 @@ func TestChoices(t *testing.T) {
 		if seen[string(make([]byte, n))] == 0 || seen[string(bytes.Repeat([]byte{1}, n))] == 0 {
 			t.Errorf("of %d writes none, or all, is no choice", n)
 		}
+	}
+}
+
+func TestCopyOf(t *testing.T) {
+	d, _ := disk.New(3)
+	p := bytes.Repeat([]byte{7}, api.PageSize)
+	d.Write(1, p)
+	d.Sync()
+	c, e := probe.CopyOf(d)
+	if c.Len() != 3 || c.Pending() != 0 || e != api.OK {
+		t.Fatalf("%d sectors, %d writes on their way, error %d", c.Len(), c.Pending(), e)
+	}
+	d.Write(1, make([]byte, api.PageSize))
+	for i, want := range [][]byte{make([]byte, api.PageSize), p, make([]byte, api.PageSize)} {
+		if b, e := c.Read(i); !bytes.Equal(b, want) || e != api.OK {
+			t.Errorf("sector %d isn't that of the other one", i)
+		}
+	}
+	if c, e := probe.CopyOf(nil); c != nil || e != api.ErrArg {
+		t.Errorf("CopyOf none: a disk %v, error %d", c != nil, e)
 	}
 }

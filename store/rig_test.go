@@ -9,6 +9,7 @@ import (
 
 	"muniment/api"
 	"muniment/disk"
+	"muniment/probe"
 	"muniment/store"
 )
 
@@ -372,15 +373,10 @@ func drawnStep(draw *rand.Rand, pages int) step {
 // copyOf is a disk that has what is durable on another one that was just restarted.
 func copyOf(t *testing.T, d *disk.Disk) *disk.Disk {
 	t.Helper()
-	c := drive(t, d.Len())
-	for i := range d.Len() {
-		b, e := d.Read(i)
-		if e != api.OK {
-			t.Fatalf("disk.Read(%d): error %d", i, e)
-		}
-		answers(t, "disk.Write", c.Write(i, b), api.OK)
+	c, e := probe.CopyOf(d)
+	if e != api.OK {
+		t.Fatalf("CopyOf: error %d", e)
 	}
-	answers(t, "disk.Sync", c.Sync(), api.OK)
 	return c
 }
 

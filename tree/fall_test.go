@@ -8,7 +8,6 @@ import (
 	"testing"
 
 	"muniment/api"
-	"muniment/disk"
 	"muniment/probe"
 	"muniment/store"
 	"muniment/tree"
@@ -126,14 +125,8 @@ func runs(t *testing.T, frames int, steps []step, n int) *rig {
 // copied is a rig of a disk that has what is durable on another one's, opened.
 func (r *rig) copied() *rig {
 	r.t.Helper()
-	d, e := disk.New(r.d.Len())
-	sure(r.t, "disk.New", e)
-	for i := range d.Len() {
-		b, e := r.d.Read(i)
-		sure(r.t, "disk.Read", e)
-		sure(r.t, "disk.Write", d.Write(i, b))
-	}
-	sure(r.t, "disk.Sync", d.Sync())
+	d, e := probe.CopyOf(r.d)
+	sure(r.t, "CopyOf", e)
 	s, e := store.Open(d, r.count, r.frames)
 	sure(r.t, "Open", e)
 	return &rig{t: r.t, d: d, s: s, tr: tree.On(s), count: r.count, pages: r.pages, frames: r.frames, sure: r.sure, now: maps.Clone(r.sure)}
