@@ -16,9 +16,7 @@ import (
 	"muniment/probe"
 )
 
-func number(n int64) api.Value { return api.Value{Kind: api.Int, N: n} }
-func text(s string) api.Value  { return api.Value{Kind: api.Text, S: s} }
-func truth(n int64) api.Value  { return api.Value{Kind: api.Bool, N: n} }
+var number, text, truth = probe.Number, probe.Word, probe.Truth
 
 // values are some of every kind, in their order.
 func values() []api.Value {

@@ -33,13 +33,7 @@ func made(t *testing.T, n int) *disk.Disk {
 	return d
 }
 
-// answers fails the test, if a call's error isn't the one wanted.
-func answers(t *testing.T, what string, got, want api.Errno) {
-	t.Helper()
-	if got != want {
-		t.Errorf("%s: error %d, want %d", what, got, want)
-	}
-}
+var answers = probe.Answers
 
 func write(t *testing.T, d *disk.Disk, i int, p []byte) {
 	t.Helper()

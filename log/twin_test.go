@@ -7,6 +7,7 @@ import (
 	"muniment/api"
 	"muniment/disk"
 	"muniment/log"
+	"muniment/probe"
 )
 
 // entry is a record, and its place.
@@ -39,13 +40,7 @@ func drive(t *testing.T, sectors int) *disk.Disk {
 	return d
 }
 
-// answers fails the test, if a call's error isn't the one wanted.
-func answers(t *testing.T, what string, got, want api.Errno) {
-	t.Helper()
-	if got != want {
-		t.Errorf("%s: error %d, want %d", what, got, want)
-	}
-}
+var answers = probe.Answers
 
 // fresh is a new log, and nothing else on its disk.
 func fresh(t *testing.T, count int) *twin {

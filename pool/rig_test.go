@@ -11,15 +11,10 @@ import (
 	"muniment/disk"
 	"muniment/log"
 	"muniment/pool"
+	"muniment/probe"
 )
 
-// answers fails the test, if a call's error isn't the one wanted.
-func answers(t *testing.T, what string, got, want api.Errno) {
-	t.Helper()
-	if got != want {
-		t.Errorf("%s: error %d, want %d", what, got, want)
-	}
-}
+var answers = probe.Answers
 
 // body is how many bytes a page has of its own, by the document.
 const body = 504

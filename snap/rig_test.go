@@ -10,6 +10,7 @@ import (
 
 	"muniment/api"
 	"muniment/disk"
+	"muniment/probe"
 	"muniment/snap"
 	"muniment/store"
 	"muniment/tree"
@@ -26,21 +27,7 @@ var (
 	largest = strings.Repeat("v", mostValue)
 )
 
-// answers fails the test, if a call's error isn't the one wanted.
-func answers(t *testing.T, what string, got, want api.Errno) {
-	t.Helper()
-	if got != want {
-		t.Errorf("%s: error %d, want %d", what, got, want)
-	}
-}
-
-// sure fails the test at once, if a call that must go well doesn't.
-func sure(t *testing.T, what string, got api.Errno) {
-	t.Helper()
-	if got != api.OK {
-		t.Fatalf("%s: error %d", what, got)
-	}
-}
+var answers, sure = probe.Answers, probe.Sure
 
 // words are keys and their values.
 type words map[string]string

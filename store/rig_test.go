@@ -20,13 +20,7 @@ const (
 	part = 480
 )
 
-// answers fails the test, if a call's error isn't the one wanted.
-func answers(t *testing.T, what string, got, want api.Errno) {
-	t.Helper()
-	if got != want {
-		t.Errorf("%s: error %d, want %d", what, got, want)
-	}
-}
+var answers = probe.Answers
 
 // filled is a page which tells what and where each byte of it stands.
 func filled(what int) []byte {

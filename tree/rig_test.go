@@ -10,25 +10,12 @@ import (
 	"muniment/api"
 	"muniment/disk"
 	"muniment/page"
+	"muniment/probe"
 	"muniment/store"
 	"muniment/tree"
 )
 
-// answers fails the test, if a call's error isn't the one wanted.
-func answers(t *testing.T, what string, got, want api.Errno) {
-	t.Helper()
-	if got != want {
-		t.Errorf("%s: error %d, want %d", what, got, want)
-	}
-}
-
-// sure fails the test at once, if a call that must go well doesn't.
-func sure(t *testing.T, what string, got api.Errno) {
-	t.Helper()
-	if got != api.OK {
-		t.Fatalf("%s: error %d", what, got)
-	}
-}
+var answers, sure = probe.Answers, probe.Sure
 
 // body is how many bytes a page has of its own, by the document.
 const body = 504
