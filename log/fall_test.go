@@ -3,6 +3,7 @@ package log_test
 import (
 	"bytes"
 	"fmt"
+	"math"
 	"math/rand"
 	"slices"
 	"testing"
@@ -246,38 +247,44 @@ func goesOn(t *testing.T, falls []fall) {
 	}
 }
 
-// P9.1, P9.3: many falls, one behind the other, in the openings too.
+// P9.1, P9.3: many falls, one behind the other, in the openings too; once with records that end anywhere, once with such as end where a sector does, or at its half.
 func TestFallMany(t *testing.T) {
 	for _, count := range []int{4, 5, 9} {
-		draw := rand.New(rand.NewSource(int64(count)))
-		f := newFaller(t, count)
-		for range 6000 {
-			answers(t, "Arm", f.d.Arm(1+draw.Intn(12)), api.OK)
-			for f.does(drawnStep(draw)) {
+		fallsMany(t, count, []int{478, 958, 600, 238, 239, 100})
+		fallsMany(t, count, []int{478, 958, 238})
+	}
+}
+
+func fallsMany(t *testing.T, count int, sizes []int) {
+	t.Helper()
+	draw := rand.New(rand.NewSource(int64(count)))
+	f := newFaller(t, count)
+	for range 6000 {
+		answers(t, "Arm", f.d.Arm(1+draw.Intn(12)), api.OK)
+		for f.does(drawnStep(draw, sizes)) {
+		}
+		for {
+			keep := make([]bool, f.d.Pending())
+			for k := range keep {
+				keep[k] = draw.Intn(2) == 0
 			}
-			for {
-				keep := make([]bool, f.d.Pending())
-				for k := range keep {
-					keep[k] = draw.Intn(2) == 0
-				}
-				answers(t, "Restart", f.d.Restart(keep), api.OK)
-				answers(t, "Arm", f.d.Arm(draw.Intn(6)), api.OK)
-				if f.open() {
-					break
-				}
+			answers(t, "Restart", f.d.Restart(keep), api.OK)
+			answers(t, "Arm", f.d.Arm(draw.Intn(6)), api.OK)
+			if f.open() {
+				break
 			}
 		}
-		if rounds := f.g.End() / uint64(480*count); rounds < 50 {
-			t.Errorf("the ring of %d was gone round %d times", count, rounds)
-		}
+	}
+	if rounds := f.g.End() / uint64(480*count); rounds < 50 {
+		t.Errorf("the ring of %d was gone round %d times", count, rounds)
 	}
 }
 
 // drawnStep is one of a few, so that records of falls that are lost and those behind them stand at the same places.
-func drawnStep(draw *rand.Rand) step {
+func drawnStep(draw *rand.Rand, sizes []int) step {
 	switch n := draw.Intn(12); {
 	case n < 5:
-		return step{adds, []int{478, 958, 600, 238, 239, 100}[draw.Intn(6)]}
+		return step{adds, sizes[draw.Intn(len(sizes))]}
 	case n < 6:
 		return step{spends, 475}
 	case n < 9:
@@ -325,26 +332,118 @@ func TestNoMixture(t *testing.T) {
 	}
 }
 
+// fills appends records of that size, which fill so many sectors to their end.
+func (f *faller) fills(sectors, size int) {
+	f.t.Helper()
+	for range sectors * 480 / (size + 2) {
+		f.does(step{adds, size})
+	}
+}
+
 // P9.1: what was kept behind a gap isn't there, when later records have filled the gap just up to it.
 func TestNoGap(t *testing.T) {
 	for _, size := range []int{478, 238} {
 		f := newFaller(t, 6)
-		fill := func(sectors int) {
-			for range sectors * 480 / (size + 2) {
-				f.does(step{adds, size})
-			}
-		}
-		fill(3)
+		f.fills(3, size)
 		f.falls(func(k int) bool { return k > 0 })
 		if f.g.End() != 480 {
 			t.Fatalf("End = %d", f.g.End())
 		}
 		for n := range 2 {
-			fill(1)
+			f.fills(1, size)
 			f.does(step{flushes, 0})
 			if !f.open() || int(f.g.End()) != 480*(n+2) {
 				t.Fatalf("End = %d", f.g.End())
 			}
+		}
+	}
+}
+
+// toEnd marks the log's end as its beginning.
+var toEnd = step{marks, math.MaxInt}
+
+// filledUp is a log behind a fall in which some writes of three were kept, then filled up to a sector's end, on which one of these may stand.
+func filledUp(t *testing.T, size, sectors, choices int) *faller {
+	t.Helper()
+	f := newFaller(t, 6)
+	f.fills(3, size)
+	f.falls(func(k int) bool { return choices>>k&1 == 1 })
+	f.fills(sectors, size)
+	f.does(step{flushes, 0})
+	return f
+}
+
+// P9.1, P9.3: what a fall kept and an opening didn't tell isn't told when the log's beginning is moved to just where it stands: not by the next opening, and not behind a fall in the Flush of further records, with each choice of the writes in both falls.
+func TestNoneBehindMark(t *testing.T) {
+	for _, size := range []int{478, 238} {
+		for sectors := 1; sectors <= 2; sectors++ {
+			for choices := range 1 << 6 {
+				for _, opened := range []bool{false, true} {
+					f := filledUp(t, size, sectors, choices)
+					f.does(toEnd)
+					if opened && !f.open() {
+						t.Fatal("the log isn't opened")
+					}
+					f.fills(3, 478)
+					f.falls(func(k int) bool { return choices>>(3+k)&1 == 1 })
+					f.does(toEnd)
+					if !f.open() || len(f.records) != 0 {
+						t.Fatalf("%d records behind the last Mark", len(f.records))
+					}
+				}
+			}
+		}
+	}
+}
+
+// P9.1, P9.3: the same, when the log's beginning is moved into the midst of its last record, behind which it is empty too.
+func TestNoneBehindMarkInside(t *testing.T) {
+	for start := uint64(481); start <= 960; start++ {
+		f := filledUp(t, 478, 1, 6)
+		answers(t, "Mark", f.g.Mark(0, start), api.OK)
+		for range 2 {
+			g, e := log.Open(f.d, 1, 6)
+			if e != api.OK || g.Start() != start || g.End() != 960 {
+				t.Fatalf("Start, End = %d, %d, error %d", g.Start(), g.End(), e)
+			}
+			if p, next, e := g.Read(960); p != nil || next != 0 || e != api.ErrNone {
+				t.Fatalf("Read(960) = %x, %d, error %d", p, next, e)
+			}
+			for range 3 {
+				answers(t, "Append", appended(g, filled(478, 9)), api.OK)
+			}
+			answers(t, "Arm", f.d.Arm(4), api.OK)
+			answers(t, "the Flush that falls", g.Flush(), api.ErrCrash)
+			answers(t, "Restart", f.d.Restart([]bool{false, true, true}), api.OK)
+		}
+	}
+}
+
+func appended(g *log.Log, p []byte) api.Errno {
+	_, e := g.Append(p, 0)
+	return e
+}
+
+// P9.1, P9.3: the same, when the power goes off in that Mark, and in the opening behind it.
+func TestNoneBehindMarkFalling(t *testing.T) {
+	for choices := range 1 << 7 {
+		for n := 1; n <= 2; n++ {
+			f := filledUp(t, 478, 1, choices)
+			answers(t, "Arm", f.d.Arm(n), api.OK)
+			if f.does(toEnd) {
+				t.Fatalf("the power isn't off in operation %d", n)
+			}
+			answers(t, "Restart", f.d.Restart([]bool{choices>>3&1 == 1}), api.OK)
+			answers(t, "Arm", f.d.Arm(3), api.OK)
+			if f.open() {
+				t.Fatal("the power isn't off in the opening")
+			}
+			answers(t, "Restart", f.d.Restart([]bool{choices>>4&1 == 1, choices>>5&1 == 1}), api.OK)
+			if !f.open() {
+				t.Fatal("the log isn't opened")
+			}
+			f.fills(2, 478)
+			f.falls(func(k int) bool { return choices>>6&1 != k })
 		}
 	}
 }
