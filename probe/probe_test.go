@@ -63,6 +63,31 @@ func TestChoices(t *testing.T) {
 	}
 }
 
+func TestRows(t *testing.T) {
+	a, b := []api.Value{probe.Word("a"), probe.Number(1)}, []api.Value{probe.Word("b"), {}}
+	r := probe.Rows{"b": b, "a": a}
+	if l := r.List(); !probe.SameRows(l, [][]api.Value{a, b}) || probe.SameRows(l, [][]api.Value{b, a}) {
+		t.Errorf("List = %v", l)
+	}
+	if l := r.With(func(row []api.Value) bool { return row[1] == a[1] }); !probe.SameRows(l, [][]api.Value{a}) {
+		t.Errorf("With = %v", l)
+	}
+	cols := probe.Columns()[:2]
+	for name, want := range map[string]bool{"a": false, "b": true} {
+		row := []api.Value{probe.Word(name), probe.Number(1)}
+		if r.Taken(cols, row) != want || r.Taken(cols, []api.Value{row[0], {}}) {
+			t.Errorf("Taken(%v) isn't %v", row, want)
+		}
+	}
+	kept := []api.Value{probe.Word("kept")}
+	if len(probe.SpoiltRows(func() [][]api.Value { return [][]api.Value{{probe.Word("a")}, kept} })) == 0 {
+		t.Error("a row that is handed out again isn't told")
+	}
+	if l := probe.SpoiltRows(func() [][]api.Value { return [][]api.Value{{probe.Word("a")}, {probe.Word("a")}} }); len(l) != 0 {
+		t.Errorf("rows of their own: %v", l)
+	}
+}
+
 func TestCopyOf(t *testing.T) {
 	d, _ := disk.New(3)
 	p := bytes.Repeat([]byte{7}, api.PageSize)

@@ -17,19 +17,7 @@ import (
 
 var answers, sure, number, text, truth = probe.Answers, probe.Sure, probe.Number, probe.Word, probe.Truth
 
-// columns have one of each kind that a column may be of.
-func columns() []api.Column {
-	return []api.Column{
-		{Name: "name", Kind: api.Text},
-		{Name: "number", Kind: api.Int, Index: true, Unique: true},
-		{Name: "text", Kind: api.Text, Index: true, Unique: true},
-		{Name: "group", Kind: api.Int, Index: true},
-		{Name: "flag", Kind: api.Bool, Index: true},
-		{Name: "n", Kind: api.Int},
-		{Name: "s", Kind: api.Text},
-		{Name: "b", Kind: api.Bool},
-	}
-}
+var columns, same = probe.Columns, probe.SameRows
 
 // pick has of a column some values that a row may have there, none is Null.
 func pick(c api.Column) []api.Value {
@@ -42,27 +30,6 @@ func pick(c api.Column) []api.Value {
 	return []api.Value{truth(0), truth(1)}
 }
 
-// rows are those of a table, by their names.
-type rows map[string][]api.Value
-
-// list is all of them, by the bytes of their names.
-func (r rows) list() [][]api.Value {
-	return r.with(func([]api.Value) bool { return true })
-}
-
-// with are those of which something is so.
-func (r rows) with(so func(row []api.Value) bool) [][]api.Value {
-	var out [][]api.Value
-	for _, name := range slices.Sorted(maps.Keys(r)) {
-		if so(r[name]) {
-			out = append(out, r[name])
-		}
-	}
-	return out
-}
-
-func same(a, b [][]api.Value) bool { return slices.EqualFunc(a, b, slices.Equal) }
-
 // rig is a table in a database, and what is there by the document's words.
 type rig struct {
 	t    *testing.T
@@ -71,7 +38,7 @@ type rig struct {
 	tab  *table.Table
 	id   byte
 	cols []api.Column
-	now  rows
+	now  probe.Rows
 	// story are what each commit has touched, that of the number 1 first.
 	story []touched
 }
@@ -88,7 +55,7 @@ func newRig(t *testing.T, id byte, cols []api.Column) *rig {
 	t.Helper()
 	db, d, e := probe.NewDB(120, 300, 16)
 	sure(t, "NewDB", e)
-	r := &rig{t: t, d: d, db: db, id: id, now: rows{}}
+	r := &rig{t: t, d: d, db: db, id: id, now: probe.Rows{}}
 	r.has(cols)
 	return r
 }
@@ -106,7 +73,7 @@ type twin struct {
 	*rig
 	x    *snap.Tx
 	at   int
-	view rows
+	view probe.Rows
 	own  touched
 }
 
@@ -149,7 +116,7 @@ func (w *twin) get(name string) {
 
 func (w *twin) list() {
 	w.t.Helper()
-	want := w.view.list()
+	want := w.view.List()
 	if got, e := w.tab.List(w.x); !same(got, want) || e != api.OK {
 		w.t.Fatalf("List = %v, error %d, want %v", got, e, want)
 	}
@@ -168,7 +135,7 @@ func (w *twin) empty() {
 
 func (w *twin) by(col int, v api.Value) {
 	w.t.Helper()
-	want := w.view.with(func(row []api.Value) bool { return row[col] == v })
+	want := w.view.With(func(row []api.Value) bool { return row[col] == v })
 	if got, e := w.tab.By(w.x, col, v); !same(got, want) || e != api.OK {
 		w.t.Fatalf("By(%d, %+v) = %v, error %d, want %v", col, v, got, e, want)
 	}
@@ -196,23 +163,11 @@ func (w *twin) tells() {
 	}
 }
 
-// taken: has another row its value in a Unique column?
-func (w *twin) taken(row []api.Value) bool {
-	for col, c := range w.cols {
-		for name, other := range w.view {
-			if c.Unique && name != row[0].S && row[col].Kind != api.Null && other[col] == row[col] {
-				return true
-			}
-		}
-	}
-	return false
-}
-
 // put sees that a Put of a row answers what it is to answer, and minds it.
 func (w *twin) put(row ...api.Value) {
 	w.t.Helper()
 	want := api.OK
-	if w.taken(row) {
+	if w.view.Taken(w.cols, row) {
 		want = api.ErrExists
 	}
 	wrote := w.x.Wrote()
